@@ -1,0 +1,1 @@
+"""Evenlead: pairs of texts that are told at unlike paces, and read in step."""
