@@ -1,6 +1,7 @@
-"""Values of all kinds, and pacers, that several tests need."""
+"""Values of all kinds, pacers and steppers, that several tests need."""
 
 from evenlead.pacers import Pacer
+from evenlead.steppers import Stepper
 
 ONE = Pacer(2, (0,), ((0, "a", "", 1), (1, "", "b", 0)), (0,))
 WIDE = Pacer(1, (0,), ((0, "a", "bb", 0),), (0,))
@@ -25,6 +26,15 @@ RINGS = Pacer(
     (1,),
 )
 PACERS = (ONE, WIDE, SHIFT, MUTE, STILL, RINGS)
+
+ONE_STEPPER = Stepper(((("a", "b", 0),),), (0,))
+SHIFT_STEPPER = Stepper(
+    ((("-", "a", 1), ("a", "a", 0), ("b", "a", 2)), (), (("-", "b", 1), ("a", "b", 0), ("b", "b", 2))), (1,)
+)
+SAME = Stepper(((("a", "a", 0), ("b", "b", 0)),), (0,))
+# Tells nothing.
+NONE_TOLD = Stepper(((),), ())
+STEPPERS = (ONE_STEPPER, SHIFT_STEPPER, SAME, NONE_TOLD)
 
 
 def nested(depth, kind):
@@ -75,4 +85,8 @@ ODD_VALUES = (
     ONE,
     [ONE],
     (WIDE, (SHIFT, {"pacer": MUTE})),
+    ONE_STEPPER,
+    NONE_TOLD,
+    [SAME],
+    ({"stepper": SHIFT_STEPPER},),
 )
