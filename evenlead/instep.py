@@ -2,7 +2,7 @@
 
 from evenlead.errors import Uneven
 from evenlead.leads import RING, judge
-from evenlead.merging import least_parts
+from evenlead.merging import explored, least_parts
 from evenlead.pacers import Pacer
 from evenlead.parts import text_of
 from evenlead.steppers import Stepper, least
@@ -21,7 +21,9 @@ def stepper_of(pacer):
     begins = {begin: True for begin in pacer.begins}
     starts = [(settled(place), "", "") for place in writes if place[0] in begins]
     firsts = [node for start in starts for node in readers(start, writes)]
-    rows, ends = least_parts(firsts, reading_steps(firsts, writes), [(DONE, "", "")])
+    # The nodes are met by the steps with which they read what was written.
+    steps = explored(firsts, lambda node: steps_of_node(node, writes))
+    rows, ends = least_parts(firsts, steps, [(DONE, "", "")])
     return Stepper(rows, ends)
 
 
@@ -92,18 +94,6 @@ def readers(start, writes):
                 met[written] = True
                 waiting.append(written)
     return found
-
-
-def reading_steps(firsts, writes):
-    """A dict of the nodes that are met, and the steps (signs, further node) by which they read what was written."""
-    steps = {}
-    waiting = list(firsts)
-    while waiting:
-        node = waiting.pop()
-        if node not in steps:
-            steps[node] = steps_of_node(node, writes)
-            waiting.extend([further for _, further in steps[node]])
-    return steps
 
 
 def steps_of_node(node, writes):

@@ -6,6 +6,18 @@ The steps are a dict: for each place a list of tuples (signs, further) of a pair
 from evenlead.graphs import useful_places
 
 
+def explored(starts, steps_from):
+    """The steps of all places that are met from some starts on, where a function gives those of each place."""
+    steps = {}
+    waiting = list(starts)
+    while waiting:
+        place = waiting.pop()
+        if place not in steps:
+            steps[place] = steps_from(place)
+            waiting.extend([further for _, further in steps[place]])
+    return steps
+
+
 def least_parts(starts, steps, ends):
     """The rows and ends of the least machine that reads what steps from some starts to some ends read.
 
@@ -27,15 +39,18 @@ def numbered(places, number):
     return tuple(sorted(set([number[place] for place in places if place in number])))
 
 
-def rows_of_sets(first, steps, ends):
+def rows_of_sets(first, steps, ends, most=None):
     """The rows of lists of (signs, further), and the ends, of the machine whose states are sets of places.
 
-    A set is an ascending tuple; the places are the indexes of their steps. State 0 is the first set.
+    A set is an ascending tuple; the places are the indexes of their steps. State 0 is the first set. Where a number
+    is given and there are more sets, it is None.
     """
     sets = [first]
     number = {first: 0}
     rows = []
     while len(rows) < len(sets):
+        if most is not None and len(sets) > most:
+            return None
         row = []
         for signs, together in steps_of_set(sets[len(rows)], steps):
             if together not in number:

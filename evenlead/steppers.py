@@ -2,7 +2,7 @@
 
 from evenlead.errors import BadStepper, BadText
 from evenlead.graphs import has_ring, useful_places
-from evenlead.merging import least_parts
+from evenlead.merging import explored, least_parts
 from evenlead.parts import (
     is_state,
     is_tuple_of_states,
@@ -112,14 +112,7 @@ def steps_in_rows(rows):
 
     The side tells which texts have not ended there; the steps are lists of tuples (signs, further place).
     """
-    steps = {}
-    waiting = [START]
-    while waiting:
-        place = waiting.pop()
-        if place not in steps:
-            steps[place] = steps_at(rows[place[0]], place[1])
-            waiting.extend([further for _, further in steps[place]])
-    return steps
+    return explored([START], lambda place: steps_at(rows[place[0]], place[1]))
 
 
 def steps_at(row, side):

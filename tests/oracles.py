@@ -234,3 +234,49 @@ def drawn_even_pacers(many):
         ends = tuple(state for state in range(size) if state == size - 1 or draw.random() < 0.3)
         pacers.append(Pacer(size, begins, tuple(moves), ends))
     return pacers
+
+
+def told_pairs(stepper, most_left, most_right):
+    """The told pairs of texts of at most so many letters, row by row from the definition."""
+    rows = {(0, "", "")}
+    pairs = set()
+    for many in range(max(most_left, most_right) + 1):
+        pairs |= {(left, right) for state, left, right in rows if state in stepper.ends}
+        rows = {
+            (further, (left + sign).strip("-"), (right + other).strip("-"))
+            for state, left, right in rows
+            for sign, other, further in stepper.rows[state]
+            if (sign == "-" or len(left) == many < most_left) and (other == "-" or len(right) == many < most_right)
+        }
+    return pairs
+
+
+def in_order(pairs):
+    """Pairs with shorter rows first, those with rows of one length as their rows are sorted."""
+    return sorted(pairs, key=lambda pair: (len(signs_of(*pair)), signs_of(*pair)))
+
+
+def drawn_gapped_steppers(many, letters="ab", seed=21):
+    """Some steppers with gaps on the left, on the right or on both, the same ones each time.
+
+    The states with letters on both sides stand first, then those behind gaps on the left, then those on the right.
+    """
+    draw = random.Random(seed)
+    return [gapped_stepper(draw, letters) for _ in range(many)]
+
+
+def gapped_stepper(draw, letters):
+    size, on_left, on_right = draw.randint(1, 3), draw.choice((0, 1, 2, 2)), draw.choice((0, 1, 2, 2))
+    lefts = range(size, size + on_left)
+    rights = range(size + on_left, size + on_left + on_right)
+    pairs = [(*pair, range(size)) for pair in itertools.product(letters, repeat=2)]
+    gaps = [("-", letter, lefts) for letter in letters] + [(letter, "-", rights) for letter in letters]
+    share = draw.choice((0.3, 0.4, 0.6))
+    rows = [pairs + gaps for _ in range(size)]
+    rows += [[("-", letter, lefts[at + 1 :]) for letter in letters] for at in range(on_left)]
+    rows += [[(letter, "-", rights[at + 1 :]) for letter in letters] for at in range(on_right)]
+    drawn = tuple(
+        tuple(sorted((*signs, draw.choice(states)) for *signs, states in row if states and draw.random() < share))
+        for row in rows
+    )
+    return Stepper(drawn, tuple(state for state in range(len(rows)) if draw.random() < 0.5))
