@@ -9,9 +9,14 @@ def is_text(thing):
     return isinstance(thing, str) and all([letter in LETTERS for letter in thing])
 
 
+def is_letter(thing):
+    """Whether any value is a letter from a to z."""
+    return is_text(thing) and len(thing) == 1
+
+
 def is_sign(thing):
     """Whether any value is a letter or the sign that stands in the place of none."""
-    return thing == NO_LETTER or (is_text(thing) and len(thing) == 1)
+    return thing == NO_LETTER or is_letter(thing)
 
 
 def is_pair_of_signs(thing):

@@ -133,7 +133,8 @@ class WrittenOutTest(unittest.TestCase):
             self.assertEqual(missing(told(*pairs[at:]), NONE_TOLD), pair)
             self.assertEqual(parting(told(*pairs[:at]), told(*pairs)), pair)
             self.assertEqual(parting(told(*pairs[:at], *pairs[at + 1 :]), told(*pairs)), pair)
-            self.assertEqual(parting(told(pair, *pairs[at + 2 :]), told(*pairs[at : at + 2])), first_of(pairs[at + 1 :]))
+            one, other = told(pair, *pairs[at + 2 :]), told(*pairs[at : at + 2])
+            self.assertEqual(parting(one, other), first_of(pairs[at + 1 :]))
 
     def test_differ_behind_many_signs(self):
         self.assertEqual(parting(line(11, (11,)), line(10, (10,))), ("a" * 10, "b" * 10))

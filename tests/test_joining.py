@@ -260,7 +260,14 @@ class WrittenOutTest(JoiningTest):
 
     def test_same_left_of_longer_and_shorter_texts(self):
         stepper = Stepper(
-            ((("-", "b", 1), ("a", "-", 3), ("a", "a", 4)), (("-", "b", 2),), (), (("b", "-", 5),), (("-", "a", 5),), ()),
+            (
+                (("-", "b", 1), ("a", "-", 3), ("a", "a", 4)),
+                (("-", "b", 2),),
+                (),
+                (("b", "-", 5),),
+                (("-", "a", 5),),
+                (),
+            ),
             (2, 5),
         )
         self.assertEqual(short(stepper), {("", "bb"), ("ab", ""), ("a", "aa")})

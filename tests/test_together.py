@@ -25,7 +25,7 @@ def exchanged(pacer, on_left, on_right):
     def word(text, letters):
         return "".join(letters.get(letter, letter) for letter in text)
 
-    moves = [(state, word(left, on_left), word(right, on_right), further) for state, left, right, further in pacer.moves]
+    moves = [(state, word(left, on_left), word(right, on_right), on) for state, left, right, on in pacer.moves]
     return Pacer(pacer.size, pacer.begins, tuple(moves), pacer.ends)
 
 
